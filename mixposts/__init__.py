@@ -1,0 +1,1 @@
+"""Mixposts: one house, many listeners, posts that mix."""
