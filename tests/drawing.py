@@ -1,4 +1,4 @@
-"""Nets drawn by chance, from a source that is handed in, for tests."""
+"""Nets, plans, messages and fallen ties drawn by chance, from a source that is handed in, for tests."""
 
 from mixposts.nets import Net
 
@@ -43,3 +43,22 @@ def drawn_net(source, many_posts, many_ties, cuts=0, listeners=8, house=True):
 def drawn_size(source, most_posts, most_ties):
     """How many posts and ties, and how many cuts."""
     return source.randrange(2, most_posts + 1), source.randrange(1, most_ties + 1), source.randrange(0, 9)
+
+
+def drawn_fallen(source, net):
+    numbers = [tie[0] for tie in net.ties()]
+    return sorted(source.sample(numbers, source.randrange(0, min(4, len(numbers)) + 1)))
+
+
+def drawn_numbers(source, many, prime):
+    return [source.randrange(prime) for turn in range(many)]
+
+
+def drawn_plan(source, net, many, prime):
+    """A plan of the net, its ties in any order."""
+    ties = net.ties()
+    source.shuffle(ties)
+    plan = {}
+    for number, one, other, delay in ties:
+        plan[number] = drawn_numbers(source, many if one == net.home() else len(net.into(one)), prime)
+    return plan

@@ -5,7 +5,7 @@ import itertools
 import random
 import unittest
 
-from drawing import drawn_net, drawn_size
+from drawing import drawn_fallen, drawn_net, drawn_size
 from mixposts.errors import NoPost, PostError
 from mixposts.reading import net_text, read_net
 from mixposts.ways import ways
@@ -69,11 +69,6 @@ def most_ways(net, listener, fallen):
             return many
         many = count
     return many
-
-
-def drawn_fallen(source, net):
-    numbers = [tie[0] for tie in net.ties()]
-    return sorted(source.sample(numbers, source.randrange(0, min(4, len(numbers)) + 1)))
 
 
 class Judging(unittest.TestCase):
