@@ -4,7 +4,7 @@ from mixposts.errors import NoLine, PostError
 from mixposts.nets import Net
 
 FIGURES = "0123456789"
-MOST_FIGURES = 2
+DELAY_FIGURES = 2
 LEFT_OUT_DELAY = 1
 
 
@@ -26,8 +26,8 @@ def net_text(net):
 
 
 # Python's own reading of numbers takes signs ahead, blanks and other scripts' figures, too.
-def is_written_number(word):
-    if not 1 <= len(word) <= MOST_FIGURES or not all([sign in FIGURES for sign in word]):
+def is_written_number(word, most_figures):
+    if not 1 <= len(word) <= most_figures or not all([sign in FIGURES for sign in word]):
         return False
     return word == "0" or word[0] != "0"
 
@@ -48,19 +48,19 @@ def put_post(net, words):
 
 def put_tie(net, words):
     if len(words) == 3:
-        net.tie(words[1], words[2], LEFT_OUT_DELAY)
-    elif len(words) == 4 and is_written_number(words[3]):
-        net.tie(words[1], words[2], int(words[3]))
-    else:
-        raise NoLine(0)
+        return net.tie(words[1], words[2], LEFT_OUT_DELAY)
+    if len(words) == 4 and is_written_number(words[3], DELAY_FIGURES):
+        return net.tie(words[1], words[2], int(words[3]))
+    raise NoLine(0)
 
 
+# Tells the number of a tie, None for a post.
 def put_line(net, line):
     words = line.split(" ")
     if words[0] == "tie":
-        put_tie(net, words)
-    else:
-        put_post(net, words)
+        return put_tie(net, words)
+    put_post(net, words)
+    return None
 
 
 def read_net(text):

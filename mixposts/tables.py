@@ -1,11 +1,9 @@
 """Tables over a field: products, ranks, readers and noughts."""
 
 
+# Fitted once, at the end: plans are made and judged by so many of these sums that fitting each step is felt.
 def row_sum(field, one, other):
-    total = 0
-    for mine, theirs in zip(one, other):
-        total = field.plus(total, field.times(mine, theirs))
-    return total
+    return field.fit(sum([mine * theirs for mine, theirs in zip(one, other)]))
 
 
 def column(table, place):

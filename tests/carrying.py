@@ -3,6 +3,7 @@
 
 def all_carry(net, plan, message, prime, fallen):
     begins = {number: one for number, one, other, delay in net.ties()}
+    into = {name: ties_into(net, name) for name in set(begins.values())}
     found = {}
 
     def carries(number):
@@ -13,7 +14,7 @@ def all_carry(net, plan, message, prime, fallen):
     def mixed(number):
         comes = message
         if begins[number] != net.home():
-            comes = [carries(each) for each in ties_into(net, begins[number])]
+            comes = [carries(each) for each in into[begins[number]]]
         return sum(mine * theirs for mine, theirs in zip(plan[number], comes, strict=True))
 
     return {number: carries(number) for number in begins}
@@ -27,6 +28,36 @@ def comes_to(net, plan, message, prime, fallen, listener):
     """What the ties into the listener carry, by their numbers."""
     carries = all_carry(net, plan, message, prime, fallen)
     return [carries[number] for number in ties_into(net, listener)]
+
+
+def all_rows(net, plan, many, prime, fallen):
+    """The row of each tie, out of what it carries of the messages with a single 1."""
+    messages = [[int(place == own) for place in range(many)] for own in range(many)]
+    flows = [all_carry(net, plan, message, prime, fallen) for message in messages]
+    return {number: [carries[number] for carries in flows] for number in flows[0]}
+
+
+def rank_by_hand(rows, prime):
+    left = [list(row) for row in rows if any(row)]
+    found = 0
+    while left:
+        lead = left.pop()
+        place = next(at for at, number in enumerate(lead) if number)
+        back = pow(lead[place], -1, prime)
+        less = [[(a - row[place] * back * b) % prime for a, b in zip(row, lead)] for row in left]
+        left = [row for row in less if any(row)]
+        found += 1
+    return found
+
+
+def who_reads(net, plan, many, prime, fallen):
+    """The listeners to which unlike messages always come unlike."""
+    rows = all_rows(net, plan, many, prime, fallen)
+    told = []
+    for listener in net.listeners():
+        if rank_by_hand([rows[number] for number in ties_into(net, listener)], prime) == many:
+            told.append(listener)
+    return told
 
 
 def lists_within(told):
@@ -47,7 +78,7 @@ def spoil(told):
             found.reverse()
             found.append(99)
         elif isinstance(found, dict):
-            found.pop(next(iter(found)), None)
+            found.pop(next(iter(found), None), None)
             found[77] = [7]
 
 

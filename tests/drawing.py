@@ -40,6 +40,25 @@ def drawn_net(source, many_posts, many_ties, cuts=0, listeners=8, house=True):
     return net
 
 
+def drawn_rich_net(source, many_posts, width, listeners=8, extra=0, idle=0):
+    """So many ties at least lead into each post along the way, so that no listener has a cut of fewer; so many ties are
+    put in besides, and so many posts to which nothing leads, but out of which ties lead."""
+    along = fresh_names(many_posts)
+    source.shuffle(along)
+    ends = [(source.randrange(other), other) for other in range(1, many_posts) for turn in range(width)]
+    ends += [sorted(source.sample(range(many_posts), 2)) for turn in range(extra)]
+    ends = [(along[one], along[other]) for one, other in ends]
+    lonely = fresh_names(idle, many_posts)
+    ends += [(name, source.choice(along[1:])) for name in lonely]
+    source.shuffle(ends)
+    net = drawn_posts(source, along, listeners, True)
+    for name in lonely:
+        net.post(name)
+    for one, other in ends:
+        net.tie(one, other, source.choice((1, 2, 9, 10, 99, source.randrange(1, 100))))
+    return net
+
+
 def drawn_size(source, most_posts, most_ties):
     """How many posts and ties, and how many cuts."""
     return source.randrange(2, most_posts + 1), source.randrange(1, most_ties + 1), source.randrange(0, 9)

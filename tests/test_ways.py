@@ -6,6 +6,7 @@ import random
 import unittest
 
 from drawing import drawn_fallen, drawn_net, drawn_size
+from leading import ends, is_cut
 from mixposts.errors import NoPost, PostError
 from mixposts.reading import net_text, read_net
 from mixposts.ways import ways
@@ -30,10 +31,6 @@ BEHIND = (
 TEXTS = (GIVING_WAY, GIVING_WAY_TWICE, SEVERAL, BEHIND)
 
 
-def ends(net):
-    return {number: (one, other) for number, one, other, delay in net.ties()}
-
-
 def all_ways(net, listener, fallen):
     """Every way to the listener, by the words of [4.1]."""
     told = []
@@ -47,16 +44,6 @@ def all_ways(net, listener, fallen):
             if one == at and number not in fallen:
                 begun.append((numbers + [number], other))
     return told
-
-
-def led_to(net, gone):
-    """The posts to which ties lead from the house without those that are gone."""
-    reached = {net.home()}
-    while True:
-        more = {other for number, (one, other) in ends(net).items() if one in reached and number not in gone} - reached
-        if not more:
-            return reached
-        reached |= more
 
 
 def most_ways(net, listener, fallen):
@@ -81,7 +68,7 @@ class Judging(unittest.TestCase):
             self.are_ways(net, listener, many, fallen or [], told[1])
         else:
             self.assertEqual(told[0], "cut")
-            self.is_cut(net, listener, many, fallen or [], told[1])
+            self.assertTrue(is_cut(net, listener, many, fallen or [], told[1]), (told, fallen))
         return told[0]
 
     def are_ways(self, net, listener, many, fallen, told):
@@ -99,14 +86,6 @@ class Judging(unittest.TestCase):
         self.assertEqual(walked[-1][1], listener)
         for ahead, behind in zip(walked, walked[1:]):
             self.assertEqual(ahead[1], behind[0])
-
-    def is_cut(self, net, listener, many, fallen, told):
-        self.assertLess(len(told), many)
-        self.assertEqual(told, sorted(set(told)))
-        self.assertTrue(set(told) <= set(ends(net)))
-        self.assertFalse(set(told) & set(fallen), (told, fallen))
-        if net.home() is not None:
-            self.assertNotIn(listener, led_to(net, fallen + told))
 
     def asked_all(self, net, fallen=None):
         for listener in net.listeners():
